@@ -1,0 +1,1 @@
+"""Newletters: words retold in other alphabets, as short as can be."""

@@ -11,6 +11,11 @@ def letters_of(n):
     return LETTERS[:2 * n]
 
 
+# The letters a, b, .. without their contraries.
+def first_letters(n):
+    return LETTERS[:2 * n:2]
+
+
 def contrary(letter):
     return CONTRARIES[letter]
 

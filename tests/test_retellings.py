@@ -6,14 +6,6 @@ from newletters.retellings import retold, ring_retold, told_same, told_then, tur
 from newletters.rings import ring_of
 
 
-def retold_by_the_book(retelling, word):
-    parts = []
-    for letter in word:
-        told = retelling["abcd".index(letter.lower())]
-        parts.append(told if letter.islower() else helping.backwards(told))
-    return helping.taken_out("".join(parts))
-
-
 def retelling_by_chance(source, n, longest=5):
     return tuple(helping.word_by_chance(source, n, source.randint(0, longest)) for place in range(n))
 
@@ -49,14 +41,14 @@ class Retold(unittest.TestCase):
             n = source.randint(1, 4)
             retelling = retelling_by_chance(source, n)
             word = helping.word_by_chance(source, n, source.randint(0, 12))
-            self.assertEqual(retold(retelling, word), retold_by_the_book(retelling, word))
+            self.assertEqual(retold(retelling, word), helping.retold_by_the_book(retelling, word))
 
     def test_at_the_bounds(self):
         source = helping.chance(22)
         for n, size in ((1, 8), (2, 8), (3, 8), (4, 5)):
             retelling = tuple(helping.word_by_chance(source, n, size) for place in range(n))
             word = helping.word_by_chance(source, n, 40)
-            self.assertEqual(retold(retelling, word), retold_by_the_book(retelling, word))
+            self.assertEqual(retold(retelling, word), helping.retold_by_the_book(retelling, word))
 
     def test_one_then_another_of_another_n_then_the_first_again(self):
         asked = [(("aa",), "a"), (("ab", "b"), "aB"), (("b", "c", "a"), "Cab"), (("d", "ab", "c", "B"), "aDb")]
@@ -83,7 +75,7 @@ class RingRetold(unittest.TestCase):
             n = source.randint(1, 4)
             retelling = retelling_by_chance(source, n)
             ring = ring_of(helping.word_by_chance(source, n, source.randint(0, 8)))
-            self.assertEqual(ring_retold(retelling, ring), ring_of(retold_by_the_book(retelling, ring)))
+            self.assertEqual(ring_retold(retelling, ring), ring_of(helping.retold_by_the_book(retelling, ring)))
 
 
 class ToldThen(unittest.TestCase):
@@ -102,7 +94,7 @@ class ToldThen(unittest.TestCase):
             self.assertEqual(len(both), n)
             word = helping.word_by_chance(source, n, source.randint(0, 10))
             self.assertEqual(retold(both, word), retold(other, retold(one, word)))
-            self.assertEqual(both, tuple(retold_by_the_book(other, told) for told in one))
+            self.assertEqual(both, tuple(helping.retold_by_the_book(other, told) for told in one))
 
     def test_what_is_told_is_handed_on(self):
         growing = ("ab", "a")

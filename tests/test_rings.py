@@ -4,13 +4,6 @@ import helping
 from newletters.rings import is_ring, ring_of, wound_by
 
 
-def ring_by_the_book(word):
-    """By the document's own words: ends off one by one, then the first of all begins."""
-    while word and word[-1] == word[0].swapcase():
-        word = word[1:-1]
-    return min([word[k:] + word[:k] for k in range(len(word))] or [""], key=helping.in_order)
-
-
 def words_by_chance(seed, many):
     source = helping.chance(seed)
     for again in range(many):
@@ -56,7 +49,7 @@ class RingOf(unittest.TestCase):
     def test_begun_at_each_letter_of_the_round(self):
         for word in ("aabAB", "abAcB", "aaab", "abab", "aBaBab", "cdCD", "A" * 7, "abaabaaab"):
             told = {ring_of(word[k:] + word[:k]) for k in range(len(word))}
-            self.assertEqual(told, {ring_by_the_book(word)}, word)
+            self.assertEqual(told, {helping.ring_by_the_book(word)}, word)
 
     def test_read_backwards_is_another_one(self):
         self.assertNotEqual(ring_of("aabAB"), ring_of(helping.backwards("aabAB")))
@@ -64,11 +57,11 @@ class RingOf(unittest.TestCase):
     def test_all_short_words(self):
         for n, longest in ((1, 8), (2, 7), (3, 5), (4, 4)):
             for word in helping.plain_words(n, longest):
-                self.assertEqual(ring_of(word), ring_by_the_book(word), word)
+                self.assertEqual(ring_of(word), helping.ring_by_the_book(word), word)
 
     def test_longer_words(self):
         for word in words_by_chance(11, 600):
-            self.assertEqual(ring_of(word), ring_by_the_book(word), word)
+            self.assertEqual(ring_of(word), helping.ring_by_the_book(word), word)
 
     def test_words_with_one_ring(self):
         source = helping.chance(12)
@@ -91,7 +84,7 @@ class IsRing(unittest.TestCase):
 
     def test_just_where_a_word_is_its_own_ring(self):
         for word in helping.plain_words(3, 5):
-            self.assertIs(is_ring(word), ring_by_the_book(word) == word, word)
+            self.assertIs(is_ring(word), helping.ring_by_the_book(word) == word, word)
 
     def test_what_is_told_as_a_ring_is_one(self):
         for word in words_by_chance(14, 300):
@@ -103,7 +96,7 @@ class WoundBy(unittest.TestCase):
         winder = wound_by(word)
         self.assertIs(type(winder), str)
         self.assertTrue(helping.is_plain(winder), (word, winder))
-        whole = helping.taken_out(winder + ring_by_the_book(word) + helping.backwards(winder))
+        whole = helping.taken_out(winder + helping.ring_by_the_book(word) + helping.backwards(winder))
         self.assertEqual(whole, word, winder)
         self.assertLessEqual(set(winder.lower()), set(word.lower()))
 

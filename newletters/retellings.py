@@ -22,6 +22,10 @@ def ring_retold(retelling, ring):
     return ring_of(retold(retelling, ring))
 
 
+def row_retold(retelling, rings):
+    return tuple([ring_retold(retelling, ring) for ring in rings])
+
+
 def told_then(one, other):
     return tuple([retold(other, word) for word in one])
 

@@ -52,3 +52,8 @@ def ring_of(word):
 
 def is_ring(word):
     return word == ring_of(word)
+
+
+# The length of a row of rings: all their letters.
+def row_length(rings):
+    return sum([len(ring) for ring in rings])

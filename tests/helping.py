@@ -64,6 +64,52 @@ def ties_by_the_book(rings):
     return ties
 
 
+def capacity(ties, one, other):
+    return ties.get((one, other), ties.get((other, one), 0))
+
+
+def worth_by_the_book(n, ties, letter, flow):
+    """Each condition of a flow by itself."""
+    pairs = [(one, other) for one, other, many in flow]
+    order = [(rank(one), rank(other)) for one, other in pairs]
+    if order != sorted(order) or len(set(pairs)) != len(pairs):
+        return None
+    if any((other, one) in pairs for one, other in pairs):
+        return None
+    if any(many < 1 or many > capacity(ties, one, other) for one, other, many in flow):
+        return None
+    for place in letters_upto(n):
+        goes = sum(many for one, other, many in flow if one == place)
+        comes = sum(many for one, other, many in flow if other == place)
+        if place == letter:
+            worth = goes - comes
+        elif place != letter.swapcase() and goes != comes:
+            return None
+    return worth if worth >= 0 else None
+
+
+def sorted_flow(parts):
+    return tuple(sorted(parts, key=lambda part: (rank(part[0]), rank(part[1]))))
+
+
+def change_by_the_book(n, change):
+    letter, side = change
+    words = []
+    for other in "abcd"[:n]:
+        word = other
+        if other != letter.lower() and other in side:
+            word = word + letter
+        if other != letter.lower() and other.upper() in side:
+            word = letter.swapcase() + word
+        words.append(word)
+    return tuple(words)
+
+
+def row_by_the_book(retelling, rings):
+    """The rings retold."""
+    return tuple(ring_by_the_book(retold_by_the_book(retelling, ring)) for ring in rings)
+
+
 def exchanges(n):
     """Of each letter and its contrary one, once, in each order."""
     for order in itertools.permutations("abcd"[:n]):
@@ -135,6 +181,11 @@ def ties_cases(seed, many):
         n = source.randint(1, 4)
         yield n, ties_by_the_book(row_by_chance(source, n))
         yield n, ties_by_chance(source, n, source.choice((1, 2, 48)))
+
+
+def change_by_chance(source, n):
+    letter = source.choice(letters_upto(n))
+    return letter, source.choice(list(sides_by_the_book(n, letter)))
 
 
 def refusal_of(case, kind, function, *handed):

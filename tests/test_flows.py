@@ -5,34 +5,6 @@ from newletters.flows import flow_for, flow_worth
 from newletters.sides import least_side, ties_leaving
 
 
-def capacity(ties, one, other):
-    return ties.get((one, other), ties.get((other, one), 0))
-
-
-def worth_by_the_book(n, ties, letter, flow):
-    """Each condition of a flow by itself."""
-    pairs = [(one, other) for one, other, many in flow]
-    order = [(helping.rank(one), helping.rank(other)) for one, other in pairs]
-    if order != sorted(order) or len(set(pairs)) != len(pairs):
-        return None
-    if any((other, one) in pairs for one, other in pairs):
-        return None
-    if any(many < 1 or many > capacity(ties, one, other) for one, other, many in flow):
-        return None
-    for place in helping.letters_upto(n):
-        goes = sum(many for one, other, many in flow if one == place)
-        comes = sum(many for one, other, many in flow if other == place)
-        if place == letter:
-            worth = goes - comes
-        elif place != letter.swapcase() and goes != comes:
-            return None
-    return worth if worth >= 0 else None
-
-
-def sorted_flow(parts):
-    return tuple(sorted(parts, key=lambda part: (helping.rank(part[0]), helping.rank(part[1]))))
-
-
 def net_flow(source, n, ties, letter):
     """Ways from the letter to its contrary and rounds, by chance, laid one over the other as far as ties last."""
     net = {}
@@ -45,11 +17,11 @@ def net_flow(source, n, ties, letter):
             way = source.sample(helping.letters_upto(n), source.randint(2, 2 * n))
             way = way + way[:1]
         steps = list(zip(way, way[1:]))
-        if steps and all(net.get(step, 0) < capacity(ties, *step) for step in steps):
+        if steps and all(net.get(step, 0) < helping.capacity(ties, *step) for step in steps):
             for one, other in steps:
                 net[(one, other)] = net.get((one, other), 0) + 1
                 net[(other, one)] = -net[(one, other)]
-    return sorted_flow((one, other, many) for (one, other), many in net.items() if many > 0)
+    return helping.sorted_flow((one, other, many) for (one, other), many in net.items() if many > 0)
 
 
 def spoilt(source, n, flow):
@@ -59,7 +31,7 @@ def spoilt(source, n, flow):
     done = source.randrange(7)
     if place is None or done == 0:
         parts.append([source.choice(helping.letters_upto(n)), source.choice(helping.letters_upto(n)), 1])
-        return sorted_flow(tuple(part) for part in parts)
+        return helping.sorted_flow(tuple(part) for part in parts)
     if done == 1:
         parts[place][2] += source.choice((-1, 1))
     elif done == 2:
@@ -85,7 +57,7 @@ class FlowFor(unittest.TestCase):
             self.assertIs(type(part), tuple)
             self.assertIs(type(part[2]), int)
         fewest = min(ties_leaving(ties, side) for side in helping.sides_by_the_book(n, letter))
-        self.assertEqual(worth_by_the_book(n, ties, letter, flow), fewest, (ties, letter, flow))
+        self.assertEqual(helping.worth_by_the_book(n, ties, letter, flow), fewest, (ties, letter, flow))
         self.assertEqual(fewest, ties_leaving(ties, least_side(n, ties, letter)))
         self.assertEqual(flow_worth(n, ties, letter, flow), fewest)
         self.assertEqual(flow_for(n, ties, letter), flow)
@@ -144,7 +116,7 @@ class FlowWorth(unittest.TestCase):
         told = flow_worth(4, TIES, letter, flow)
         self.assertEqual(TIES, kept)
         self.assertTrue(told is None or type(told) is int)
-        self.assertEqual(told, worth_by_the_book(4, TIES, letter, flow))
+        self.assertEqual(told, helping.worth_by_the_book(4, TIES, letter, flow))
         return told
 
     def test_without_tuples(self):
@@ -219,7 +191,7 @@ class FlowWorth(unittest.TestCase):
         self.assertIsNone(self.worth((("a", "b", 1), ("b", "A", 2))))
         self.assertIsNone(self.worth((("a", "b", 1), ("b", "c", 1))))
         for place in "bBcC":
-            self.assertEqual(self.worth(sorted_flow((("a", place, 1), (place, "A", 1)))), 1)
+            self.assertEqual(self.worth(helping.sorted_flow((("a", place, 1), (place, "A", 1)))), 1)
             self.assertIsNone(self.worth((("a", place, 1),)))
             self.assertIsNone(self.worth(((place, "A", 1),)))
         # As much is missing at the one letter as is too much at the other.
@@ -247,7 +219,7 @@ class FlowWorth(unittest.TestCase):
                 letter = source.choice(helping.letters_upto(n))
                 flow = net_flow(source, n, ties, letter)
                 for other in (flow, spoilt(source, n, flow), spoilt(source, n, flow)):
-                    expected = worth_by_the_book(n, ties, letter, other)
+                    expected = helping.worth_by_the_book(n, ties, letter, other)
                     told = flow_worth(n, ties, letter, other)
                     self.assertEqual(told, expected, (ties, letter, other))
                     worths.add(told)

@@ -1,5 +1,7 @@
 """The letters, their order and their contraries [4]."""
 
+MOST_LETTERS = 4
+
 LETTERS = ("a", "A", "b", "B", "c", "C", "d", "D")
 
 CONTRARIES = {"a": "A", "A": "a", "b": "B", "B": "b", "c": "C", "C": "c", "d": "D", "D": "d"}

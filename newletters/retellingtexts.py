@@ -1,10 +1,8 @@
 """A retelling's text, written and read [9]."""
 
 from newletters.errors import NoText
-from newletters.letters import first_letters
+from newletters.letters import MOST_LETTERS, first_letters
 from newletters.words import first_fault
-
-MOST_LETTERS = 4
 
 NO_LETTERS = "."
 

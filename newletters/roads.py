@@ -5,7 +5,13 @@ from newletters.changes import change_told
 from newletters.letters import contrary
 from newletters.retellings import row_retold, told_same, told_then
 
+CHANGE = "change"
+
 EXCHANGE = "exchange"
+
+
+def change_step(change):
+    return (CHANGE,) + change
 
 
 # An exchange's letters are words of one letter, so they are a retelling as they stand.
@@ -15,11 +21,16 @@ def step_told(n, step):
     return change_told(n, step[1:])
 
 
-def road_told(n, road):
-    told = told_same(n)
+# Words retold step by step: long words need not be retold by the long words of a whole road.
+def words_along(n, words, road):
+    told = words
     for step in road:
         told = told_then(told, step_told(n, step))
     return told
+
+
+def road_told(n, road):
+    return words_along(n, told_same(n), road)
 
 
 # A letter and its contrary are neighbours in order, so the side still rises with the one in the other's place.
@@ -41,3 +52,19 @@ def rows_along(n, rings, road):
         row = row_retold(step_told(n, step), row)
         rows.append(row)
     return rows
+
+
+# As with words: steps side by side that undo one another fall away, and so does the exchange that keeps each letter;
+# exchanges side by side become one.
+def road_laid_out(n, road):
+    kept = []
+    for step in road:
+        if step == (EXCHANGE, told_same(n)):
+            continue
+        if len(kept) > 0 and step == step_back(kept[-1]):
+            kept.pop()
+        elif len(kept) > 0 and step[0] == EXCHANGE and kept[-1][0] == EXCHANGE:
+            kept[-1] = (EXCHANGE, told_then(kept[-1][1], step[1]))
+        else:
+            kept.append(step)
+    return tuple(kept)

@@ -1,6 +1,6 @@
 """Ties between the letters of a row of rings, and how often a letter counts [12]."""
 
-from newletters.letters import contrary, rank_of
+from newletters.letters import contrary, letters_of, rank_of
 
 
 # The key under which ties between two letters stand.
@@ -24,3 +24,8 @@ def ties_between(ties, one, other):
 
 def count_of(rings, letter):
     return sum([ring.count(letter) + ring.count(contrary(letter)) for ring in rings])
+
+
+# The letters of n that count in the rings, their contraries too.
+def letters_standing(n, rings):
+    return [letter for letter in letters_of(n) if count_of(rings, letter) > 0]

@@ -1,6 +1,7 @@
 """What several test files share: words and rows by chance (always the same ones), all short words, answers found by
 the document's own words, looks at refusals."""
 
+import functools
 import itertools
 import random
 
@@ -125,6 +126,118 @@ def sides_by_the_book(n, letter):
             yield tuple(sorted(chosen + (letter,), key=rank))
 
 
+def leaving(ties, side):
+    return sum(many for (one, other), many in ties.items() if (one in side) != (other in side))
+
+
+def shorter_by_the_book(n, rings):
+    ties = ties_by_the_book(rings)
+    for letter in "abcd"[:n]:
+        sides = sorted(sides_by_the_book(n, letter), key=lambda side: (leaving(ties, side), len(side)))
+        fall = "".join(rings).lower().count(letter) - leaving(ties, sides[0])
+        if fall > 0:
+            return (letter, sides[0]), fall
+    return None
+
+
+def alphabet_by_chance(source, n, steps):
+    """Changes and an exchange one behind the other."""
+    alphabet = source.choice(list(exchanges(n)))
+    for again in range(steps):
+        alphabet = then_by_the_book(
+            alphabet, change_by_the_book(n, change_by_chance(source, n)))
+    return alphabet
+
+
+def step_by_the_book(n, step):
+    return step[1] if step[0] == "exchange" else change_by_the_book(n, step[1:])
+
+
+def road_by_the_book(n, road):
+    told = tuple("abcd"[:n])
+    for step in road:
+        told = then_by_the_book(told, step_by_the_book(n, step))
+    return told
+
+
+def is_change_by_the_book(n, change):
+    letter, side = change
+    return letter in list(letters_upto(n)) and side in list(sides_by_the_book(n, letter))
+
+
+def fault_by_the_book(n, rings, paper):
+    """The number that the refusal has, or None where the paper holds."""
+    changes, flows = paper
+    row = rings
+    for number, change in enumerate(changes):
+        if not is_change_by_the_book(n, change):
+            return number
+        behind = row_by_the_book(change_by_the_book(n, change), row)
+        if len("".join(behind)) >= len("".join(row)):
+            return number
+        row = behind
+    if len(flows) != n:
+        return len(changes)
+    ties = ties_by_the_book(row)
+    for number, letter in enumerate("abcd"[:n]):
+        count = "".join(row).lower().count(letter)
+        if worth_by_the_book(n, ties, letter, flows[number]) != count:
+            return len(changes) + number
+    return None
+
+
+def shortest_by_the_book(n, rings):
+    """The row to which the changes of [17] lead."""
+    shorter = shorter_by_the_book(n, rings)
+    while shorter is not None:
+        rings = row_by_the_book(change_by_the_book(n, shorter[0]), rings)
+        shorter = shorter_by_the_book(n, rings)
+    return rings
+
+
+def end_of_road(n, rings, road):
+    """The row behind the last step, the rings retold step by step."""
+    for step in road:
+        rings = row_by_the_book(step_by_the_book(n, step), rings)
+    return rings
+
+
+def is_road_by_the_book(n, road):
+    """A tuple of steps, each a change or an exchange of n."""
+    if type(road) is not tuple or any(type(step) is not tuple for step in road):
+        return False
+    changes = [step[1:] for step in road if step[0] == "change"]
+    letters = [step[1:] for step in road if step[0] == "exchange"]
+    return (len(changes) + len(letters) == len(road)
+            and all(len(change) == 2 and is_change_by_the_book(n, change) for change in changes)
+            and all(len(step) == 1 and step[0] in list(exchanges(n)) for step in letters))
+
+
+@functools.lru_cache(maxsize=None)
+def form_by_the_book(n, ring):
+    """Of the rings that come by all exchanges of n the first in order."""
+    return min([ring_by_the_book(retold_by_the_book(letters, ring)) for letters in exchanges(n)], key=in_order)
+
+
+def all_neighbours(n, ring):
+    """All rings of the same length that come by any change of n, of letters that stand nowhere too."""
+    for letter in letters_upto(n):
+        for side in sides_by_the_book(n, letter):
+            behind = row_by_the_book(change_by_the_book(n, (letter, side)), (ring,))[0]
+            if len(behind) == len(ring):
+                yield behind
+
+
+def forms_by_the_book(n, ring):
+    forms = [form_by_the_book(n, ring)]
+    for form in forms:
+        for behind in all_neighbours(n, form):
+            other = form_by_the_book(n, behind)
+            if other not in forms:
+                forms.append(other)
+    return sorted(forms, key=in_order)
+
+
 def plain_words(n, longest):
     """All plain words of n with at most so many letters."""
     for size in range(longest + 1):
@@ -186,6 +299,14 @@ def ties_cases(seed, many):
 def change_by_chance(source, n):
     letter = source.choice(letters_upto(n))
     return letter, source.choice(list(sides_by_the_book(n, letter)))
+
+
+def long_alphabet(times):
+    """An alphabet of three letters: so often a is told by ab, b by c, c by a (nothing falls away of such words)."""
+    words = tuple("abc")
+    for again in range(times):
+        words = tuple("".join({"a": "ab", "b": "c", "c": "a"}[letter] for letter in word) for word in words)
+    return words
 
 
 def refusal_of(case, kind, function, *handed):

@@ -14,32 +14,6 @@ CROSS_FLOWS = (
 )
 
 
-def is_change_by_the_book(n, change):
-    letter, side = change
-    return letter in list(helping.letters_upto(n)) and side in list(helping.sides_by_the_book(n, letter))
-
-
-def fault_by_the_book(n, rings, paper):
-    """The number that the refusal has, or None where the paper holds."""
-    changes, flows = paper
-    row = rings
-    for number, change in enumerate(changes):
-        if not is_change_by_the_book(n, change):
-            return number
-        behind = helping.row_by_the_book(helping.change_by_the_book(n, change), row)
-        if len("".join(behind)) >= len("".join(row)):
-            return number
-        row = behind
-    if len(flows) != n:
-        return len(changes)
-    ties = helping.ties_by_the_book(row)
-    for number, letter in enumerate("abcd"[:n]):
-        count = "".join(row).lower().count(letter)
-        if helping.worth_by_the_book(n, ties, letter, flows[number]) != count:
-            return len(changes) + number
-    return None
-
-
 def shortening_changes(n, rings):
     """All changes that make the row shorter, whatever their letter."""
     for letter in helping.letters_upto(n):
@@ -94,7 +68,7 @@ class PaperFor(unittest.TestCase):
             self.assertEqual([type(part) for part in (paper,) + paper], [tuple] * 3)
             self.assertEqual(paper[0], tuple(made_short(n, rings)[0]))
             self.assertEqual(len(paper[1]), n)
-            self.assertIsNone(fault_by_the_book(n, rings, paper), rings)
+            self.assertIsNone(helping.fault_by_the_book(n, rings, paper), rings)
             self.assertIs(paper_holds(n, rings, paper), True)
             self.assertEqual(paper_for(n, rings), paper)
 
@@ -143,7 +117,7 @@ class PaperHolds(unittest.TestCase):
             if n > 1:
                 flows = tuple(with_round(source, n, ties, with_round(source, n, ties, flow)) for flow in flows)
             paper = (changes, flows)
-            self.assertIsNone(fault_by_the_book(n, rings, paper))
+            self.assertIsNone(helping.fault_by_the_book(n, rings, paper))
             self.assertIs(paper_holds(n, rings, paper), True, (rings, paper))
             told = paper_for(n, rings)
             unlike += (told[0] != changes) + (paper_for(n, row)[1] != flows)
@@ -154,7 +128,7 @@ class NoPapers(unittest.TestCase):
     def refused(self, n, rings, paper, at):
         refusal = helping.refusal_of(self, NoPaper, paper_holds, n, rings, paper)
         self.assertEqual(refusal.at, at, (rings, paper))
-        self.assertEqual(fault_by_the_book(n, rings, paper), at)
+        self.assertEqual(helping.fault_by_the_book(n, rings, paper), at)
 
     def test_a_change_that_is_none(self):
         flows = ((), (("b", "B", 1),))
@@ -262,7 +236,7 @@ class NoPapers(unittest.TestCase):
                     place = source.randrange(len(flows))
                     flows[place] = flows[place][1:]
             paper = (tuple(changes), tuple(flows))
-            at = fault_by_the_book(n, rings, paper)
+            at = helping.fault_by_the_book(n, rings, paper)
             told.add(at)
             if at is None:
                 self.assertIs(paper_holds(n, rings, paper), True, (rings, paper))
@@ -275,7 +249,7 @@ class NoPapers(unittest.TestCase):
                   (2, ("aab",), paper_for(2, ("ab",))), (3, ("ab",), paper_for(3, ("ab",)))]
         for one, other in itertools.permutations(papers, 2):
             for question in (one, other, one):
-                at = fault_by_the_book(*question)
+                at = helping.fault_by_the_book(*question)
                 if at is None:
                     self.assertIs(paper_holds(*question), True)
                 else:

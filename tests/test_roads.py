@@ -16,17 +16,6 @@ def road_by_chance(source, n, most=6):
     return tuple(step_by_chance(source, n) for again in range(source.randint(0, most)))
 
 
-def step_by_the_book(n, step):
-    return step[1] if step[0] == "exchange" else helping.change_by_the_book(n, step[1:])
-
-
-def road_by_the_book(n, road):
-    told = tuple("abcd"[:n])
-    for step in road:
-        told = helping.then_by_the_book(told, step_by_the_book(n, step))
-    return told
-
-
 class RoadTold(unittest.TestCase):
     def test_without_steps(self):
         for n in range(1, 5):
@@ -58,7 +47,7 @@ class RoadTold(unittest.TestCase):
             road = road_by_chance(source, n)
             told = road_told(n, road)
             self.assertIs(type(told), tuple)
-            self.assertEqual(told, road_by_the_book(n, road), road)
+            self.assertEqual(told, helping.road_by_the_book(n, road), road)
 
 
 class RoadBack(unittest.TestCase):
@@ -98,8 +87,8 @@ class RoadBack(unittest.TestCase):
             back = road_back(n, road)
             self.assertIs(type(back), tuple)
             self.assertEqual([step[0] for step in back], [step[0] for step in road][::-1])
-            self.assertEqual(road_by_the_book(n, road + back), told_same(n), road)
-            self.assertEqual(road_by_the_book(n, back + road), told_same(n), road)
+            self.assertEqual(helping.road_by_the_book(n, road + back), told_same(n), road)
+            self.assertEqual(helping.road_by_the_book(n, back + road), told_same(n), road)
             self.assertEqual(road_told(n, road + back), told_same(n))
             self.assertEqual(road_told(n, back + road), told_same(n))
             self.assertEqual(road_back(n, back), road)
@@ -131,7 +120,7 @@ class RowsAlong(unittest.TestCase):
             self.assertEqual(len(rows), len(road))
             row = rings
             for step, told in zip(road, rows):
-                row = helping.row_by_the_book(step_by_the_book(n, step), row)
+                row = helping.row_by_the_book(helping.step_by_the_book(n, step), row)
                 self.assertIs(type(told), tuple)
                 self.assertEqual(told, row, (rings, road))
             if road:

@@ -3,7 +3,7 @@ import unittest
 import helping
 from newletters.changes import look_change, rings_changed
 from newletters.flows import flow_for, flow_worth
-from newletters.retellings import ring_retold, told_same, told_then
+from newletters.retellings import ring_retold
 from newletters.rings import ring_of
 from newletters.shortening import made_short, made_shorter
 from newletters.ties import count_of, ties_of
@@ -14,29 +14,6 @@ SHORTEST = (
     (2, ("aabb",)), (2, ("abAB",)), (2, ("aa", "bb")), (2, ("abAB", "", "abAB")), (3, ("aabbcc",)),
     (4, ("aabbccdd",)), (4, ("a", "b", "c", "d")), (4, ("abABcdCD",)), (3, ("a", "C")),
 )
-
-
-def leaving(ties, side):
-    return sum(many for (one, other), many in ties.items() if (one in side) != (other in side))
-
-
-def shorter_by_the_book(n, rings):
-    ties = helping.ties_by_the_book(rings)
-    for letter in "abcd"[:n]:
-        sides = sorted(helping.sides_by_the_book(n, letter), key=lambda side: (leaving(ties, side), len(side)))
-        fall = "".join(rings).lower().count(letter) - leaving(ties, sides[0])
-        if fall > 0:
-            return (letter, sides[0]), fall
-    return None
-
-
-def alphabet_by_chance(source, n, steps):
-    """Changes and an exchange one behind the other."""
-    alphabet = source.choice(list(helping.exchanges(n)))
-    for again in range(steps):
-        alphabet = helping.then_by_the_book(
-            alphabet, helping.change_by_the_book(n, helping.change_by_chance(source, n)))
-    return alphabet
 
 
 class MadeShorter(unittest.TestCase):
@@ -70,7 +47,7 @@ class MadeShorter(unittest.TestCase):
             n = source.randint(1, 4)
             rings = helping.row_by_chance(source, n)
             told = made_shorter(n, rings)
-            self.assertEqual(told, shorter_by_the_book(n, rings), rings)
+            self.assertEqual(told, helping.shorter_by_the_book(n, rings), rings)
             if told is None:
                 continue
             change, fall = told
@@ -89,7 +66,7 @@ class MadeShorter(unittest.TestCase):
             rings = helping.row_by_chance(source, n, 12)
             length = len("".join(rings))
             ties = helping.ties_by_the_book(rings)
-            shortest = min(length - count_of(rings, letter) + leaving(ties, side)
+            shortest = min(length - count_of(rings, letter) + helping.leaving(ties, side)
                            for letter in helping.letters_upto(n) for side in helping.sides_by_the_book(n, letter))
             self.assertEqual(made_shorter(n, rings) is None, shortest == length, rings)
 
@@ -103,10 +80,10 @@ class MadeShort(unittest.TestCase):
         self.assertIs(type(end), tuple)
         row = rings
         for change in changes:
-            self.assertEqual(shorter_by_the_book(n, row)[0], change)
+            self.assertEqual(helping.shorter_by_the_book(n, row)[0], change)
             row = helping.row_by_the_book(helping.change_by_the_book(n, change), row)
         self.assertEqual(end, row)
-        self.assertIsNone(shorter_by_the_book(n, row))
+        self.assertIsNone(helping.shorter_by_the_book(n, row))
         self.assertIsNone(made_shorter(n, end))
         return changes, end
 
@@ -137,7 +114,7 @@ class MadeShort(unittest.TestCase):
         for again in range(150):
             n = source.randint(1, 4)
             rings = helping.row_by_chance(source, n, 10)
-            other = helping.row_by_the_book(alphabet_by_chance(source, n, 2), rings)
+            other = helping.row_by_the_book(helping.alphabet_by_chance(source, n, 2), rings)
             length = len("".join(made_short(n, rings)[1]))
             self.assertEqual(len("".join(made_short(n, other)[1])), length, rings)
             self.assertLessEqual(length, len("".join(other)))
@@ -157,7 +134,7 @@ class MadeShort(unittest.TestCase):
         source = helping.chance(116)
         for again in range(60):
             n = source.randint(1, 4)
-            words = alphabet_by_chance(source, n, source.randint(1, 3))
+            words = helping.alphabet_by_chance(source, n, source.randint(1, 3))
             changes, end = self.look(n, tuple(helping.ring_by_the_book(word) for word in words))
             self.assertEqual([len(ring) for ring in end], [1] * n, words)
             self.assertEqual(sorted(ring.lower() for ring in end), list("abcd"[:n]))
@@ -183,9 +160,7 @@ class MadeShort(unittest.TestCase):
             self.assertEqual((made_short(*question), made_shorter(*question)), told)
 
     def test_what_is_told_is_handed_on(self):
-        alphabet = told_same(3)
-        for again in range(25):
-            alphabet = told_then(alphabet, ("ab", "c", "a"))
+        alphabet = helping.long_alphabet(25)
         rings = tuple(ring_of(word) for word in alphabet)
         self.assertGreater(len("".join(rings)), 10000)
         changes, end = made_short(3, rings)

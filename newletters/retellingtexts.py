@@ -2,17 +2,11 @@
 
 from newletters.errors import NoText
 from newletters.letters import MOST_LETTERS, first_letters
-from newletters.words import first_fault
-
-NO_LETTERS = "."
+from newletters.wordtexts import read_word, shown_word
 
 
 def row_head(letter):
     return f"{letter} = "
-
-
-def shown_word(word):
-    return NO_LETTERS if word == "" else word
 
 
 def show_retelling(retelling):
@@ -23,14 +17,7 @@ def show_retelling(retelling):
 # The word that the row tells of this letter, or None where the row is none.
 def word_in_row(n, letter, row):
     head = row_head(letter)
-    if not row.startswith(head):
-        return None
-    shown = row[len(head):]
-    if shown == NO_LETTERS:
-        return ""
-    if shown == "" or first_fault(n, shown) is not None:
-        return None
-    return shown
+    return read_word(n, row[len(head):]) if row.startswith(head) else None
 
 
 def read_retelling(text):

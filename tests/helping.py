@@ -301,6 +301,16 @@ def change_by_chance(source, n):
     return letter, source.choice(list(sides_by_the_book(n, letter)))
 
 
+def step_by_chance(source, n):
+    if source.random() < 0.4:
+        return ("exchange", source.choice(list(exchanges(n))))
+    return ("change",) + change_by_chance(source, n)
+
+
+def road_by_chance(source, n, most=6):
+    return tuple(step_by_chance(source, n) for again in range(source.randint(0, most)))
+
+
 def long_alphabet(times):
     """An alphabet of three letters: so often a is told by ab, b by c, c by a (nothing falls away of such words)."""
     words = tuple("abc")

@@ -179,6 +179,12 @@ class FormsFrom(unittest.TestCase):
             for most in (1, 11, 12):
                 helping.refusal_of(self, TooMany, forms_from, n, ring, most)
 
+    def test_just_twelve_and_one_more(self):
+        # Of an even power of a and bb there is a form for each two letters a, and one more.
+        self.assertEqual(forms_from(2, "a" * 22 + "bb", 12), helping.forms_by_the_book(2, "a" * 22 + "bb"))
+        helping.refusal_of(self, TooMany, forms_from, 2, "a" * 22 + "bb", 11)
+        helping.refusal_of(self, TooMany, forms_from, 2, "a" * 24 + "bb", 12)
+
     def test_the_refusal(self):
         refusal = helping.refusal_of(self, TooMany, forms_from, 2, "aabb", 1)
         self.assertIsInstance(refusal, LetterError)

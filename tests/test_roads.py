@@ -6,16 +6,6 @@ from newletters.retellings import told_same
 from newletters.roads import road_back, road_told, rows_along
 
 
-def step_by_chance(source, n):
-    if source.random() < 0.4:
-        return ("exchange", source.choice(list(helping.exchanges(n))))
-    return ("change",) + helping.change_by_chance(source, n)
-
-
-def road_by_chance(source, n, most=6):
-    return tuple(step_by_chance(source, n) for again in range(source.randint(0, most)))
-
-
 class RoadTold(unittest.TestCase):
     def test_without_steps(self):
         for n in range(1, 5):
@@ -44,7 +34,7 @@ class RoadTold(unittest.TestCase):
         source = helping.chance(101)
         for again in range(200):
             n = source.randint(1, 4)
-            road = road_by_chance(source, n)
+            road = helping.road_by_chance(source, n)
             told = road_told(n, road)
             self.assertIs(type(told), tuple)
             self.assertEqual(told, helping.road_by_the_book(n, road), road)
@@ -83,7 +73,7 @@ class RoadBack(unittest.TestCase):
         source = helping.chance(102)
         for again in range(200):
             n = source.randint(1, 4)
-            road = road_by_chance(source, n)
+            road = helping.road_by_chance(source, n)
             back = road_back(n, road)
             self.assertIs(type(back), tuple)
             self.assertEqual([step[0] for step in back], [step[0] for step in road][::-1])
@@ -114,7 +104,7 @@ class RowsAlong(unittest.TestCase):
         for again in range(200):
             n = source.randint(1, 4)
             rings = helping.row_by_chance(source, n)
-            road = road_by_chance(source, n, 5)
+            road = helping.road_by_chance(source, n, 5)
             rows = rows_along(n, rings, road)
             self.assertIs(type(rows), list)
             self.assertEqual(len(rows), len(road))
@@ -131,7 +121,7 @@ class RowsAlong(unittest.TestCase):
         for again in range(60):
             n = source.randint(1, 4)
             rings = helping.row_by_chance(source, n)
-            road = road_by_chance(source, n, 4) + (step_by_chance(source, n),)
+            road = helping.road_by_chance(source, n, 4) + (helping.step_by_chance(source, n),)
             rows = rows_along(n, rings, road + road_back(n, road))
             self.assertEqual(rows[-1], rings)
 
